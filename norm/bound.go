@@ -1,0 +1,68 @@
+package norm
+
+import (
+	"math"
+
+	"gradus/api"
+)
+
+const (
+	// mostHigh is what the document's bound admits: one thing, and 2^16 nested in it. Functions call themselves as often.
+	mostHigh = 1<<16 + 1
+	// mostBytes is what the document's bound admits as an answer.
+	mostBytes = math.MaxInt32
+)
+
+// How many bytes things take, without what stands in their lists.
+const (
+	numberBytes = 8
+	textBytes   = 16
+	needBytes   = 24
+	typeBytes   = 72
+	coBytes     = 120
+	coreBytes   = 152
+)
+
+// room is how many bytes there may be yet.
+type room int
+
+// bounded tells whether functions are no more than the document's bound admits. What stands within itself is endless,
+// and what stands in many places may be all but endless: it is made anew as often.
+func bounded(funs []api.Fun) bool {
+	left := room(mostBytes)
+	for i := range funs {
+		if !left.forType(&funs[i].Type, 1) || !left.forCore(&funs[i].Body, 1) {
+			return false
+		}
+	}
+	return true
+}
+
+func (r *room) forBytes(bytes, height int) bool {
+	*r -= room(bytes)
+	return *r >= 0 && height <= mostHigh
+}
+
+func (r *room) forCore(c *api.Core, height int) bool {
+	return r.forBytes(coreBytes+len(c.Ints)*numberBytes+len(c.Names)*textBytes, height) &&
+		within(c.Types, 0, r.forType) && within(c.Cos, 0, r.forCo) && within(c.Kids, height, r.forCore)
+}
+
+func (r *room) forType(t *api.Type, height int) bool {
+	return r.forBytes(typeBytes+len(t.Names)*textBytes, height) && within(t.Kids, height, r.forType)
+}
+
+func (r *room) forCo(c *api.Co, height int) bool {
+	return r.forBytes(coBytes+len(c.Tags)*numberBytes+len(c.Needs)*needBytes+len(c.Names)*textBytes, height) &&
+		within(c.Fields, height, r.forCo) && within(c.Fun, height, r.forCo)
+}
+
+// within tells whether there is room for all things of a list, which stand in one of that height.
+func within[Thing any](list []Thing, height int, room func(*Thing, int) bool) bool {
+	for i := range list {
+		if !room(&list[i], height+1) {
+			return false
+		}
+	}
+	return true
+}
